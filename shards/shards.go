@@ -1,0 +1,122 @@
+// Package shards keeps the log: shards that split and merge, and their records.
+package shards
+
+import (
+	"shardflow/api"
+	"shardflow/record"
+)
+
+// Log has all shards, by their numbers. Each hash is at any time in the range of just one open shard.
+type Log struct {
+	shards []shard
+}
+
+type shard struct {
+	lo, hi  int
+	open    bool
+	parents []int
+	records []record.Record
+}
+
+// New makes a log of one shard, open for all hashes.
+func New() Log {
+	return Log{shards: []shard{{lo: 0, hi: record.Hashes, open: true}}}
+}
+
+// Put lays r behind the records of its shard, and answers the numbers of the shard and of the record.
+func (l *Log) Put(r record.Record) (int, int, api.Errno) {
+	hash := r.Key.Hash()
+	n := l.home(hash)
+	place := len(l.shards[n].records)
+	if place >= api.MaxRecords {
+		return 0, 0, api.ErrFull
+	}
+	l.shards[n].records = append(l.shards[n].records, r)
+	return n, place, api.OK
+}
+
+// Split closes a shard and opens two for its range, which meet at the hash at; it answers the first of them.
+func (l *Log) Split(n int, at int) (int, api.Errno) {
+	if !l.has(n) {
+		return 0, api.ErrShard
+	}
+	lo, hi := l.shards[n].lo, l.shards[n].hi
+	if !l.shards[n].open {
+		return 0, api.ErrClosed
+	}
+	if at <= lo || at >= hi {
+		return 0, api.ErrRange
+	}
+	if !l.hasRoom(2) {
+		return 0, api.ErrFull
+	}
+	first := len(l.shards)
+	l.shards[n].open = false
+	l.shards = append(l.shards, shard{lo: lo, hi: at, open: true, parents: []int{n}})
+	l.shards = append(l.shards, shard{lo: at, hi: hi, open: true, parents: []int{n}})
+	return first, api.OK
+}
+
+// Merge closes two shards and opens one for both ranges, which it answers.
+func (l *Log) Merge(a int, b int) (int, api.Errno) {
+	hasA := l.has(a)
+	hasB := l.has(b)
+	if !hasA || !hasB {
+		return 0, api.ErrShard
+	}
+	if !l.shards[a].open || !l.shards[b].open {
+		return 0, api.ErrClosed
+	}
+	if l.shards[a].hi != l.shards[b].lo {
+		return 0, api.ErrRange
+	}
+	if !l.hasRoom(1) {
+		return 0, api.ErrFull
+	}
+	merged := len(l.shards)
+	lo, hi := l.shards[a].lo, l.shards[b].hi
+	l.shards[a].open = false
+	l.shards[b].open = false
+	l.shards = append(l.shards, shard{lo: lo, hi: hi, open: true, parents: []int{a, b}})
+	return merged, api.OK
+}
+
+// List tells all shards, in lists that are the caller's.
+func (l *Log) List() []api.Shard {
+	list := make([]api.Shard, 0, len(l.shards))
+	for i := 0; i < len(l.shards); i++ {
+		told := l.shards[i].tell()
+		list = append(list, told)
+	}
+	return list
+}
+
+func (l *Log) has(n int) bool {
+	return 0 <= n && n < len(l.shards)
+}
+
+func (l *Log) hasRoom(more int) bool {
+	return len(l.shards)+more <= api.MaxShards
+}
+
+// home is the open shard that has the hash. There is just one: if it is none of the others, it is shard 0.
+func (l *Log) home(hash int) int {
+	n := len(l.shards) - 1
+	for n > 0 && !l.shards[n].accepts(hash) {
+		n--
+	}
+	return n
+}
+
+func (s *shard) accepts(hash int) bool {
+	return s.open && s.lo <= hash && hash < s.hi
+}
+
+func (s *shard) tell() api.Shard {
+	// A copy: a caller who wrote into the shard's own list would change the log.
+	parents := make([]int, 0, len(s.parents))
+	for i := 0; i < len(s.parents); i++ {
+		parents = append(parents, s.parents[i])
+	}
+	return api.Shard{Lo: s.lo, Hi: s.hi, Open: s.open, Parents: parents, Count: len(s.records)}
+}
