@@ -4,15 +4,21 @@ package shardflow
 import (
 	"shardflow/api"
 	"shardflow/config"
+	"shardflow/leases"
+	"shardflow/memory"
 	"shardflow/record"
 	"shardflow/shards"
+	"shardflow/sink"
 )
 
 // Group is a log, its workers and their sink.
 type Group struct {
-	config api.Config
-	log    shards.Log
-	now    int
+	config  api.Config
+	now     int
+	log     shards.Log
+	sink    sink.Sink
+	leases  leases.Table
+	workers []memory.Memory
 }
 
 // New makes a group (P3).
@@ -20,7 +26,10 @@ func New(c api.Config) (*Group, api.Errno) {
 	if !config.Valid(c) {
 		return nil, api.ErrConfig
 	}
-	return &Group{config: c, log: shards.New(), now: 0}, api.OK
+	log := shards.New()
+	table := leases.New()
+	workers := make([]memory.Memory, c.Workers)
+	return &Group{config: c, log: log, leases: table, workers: workers}, api.OK
 }
 
 // Put lays a record into the log (P4).
@@ -43,24 +52,6 @@ func (g *Group) Shards() []api.Shard { return g.log.List() }
 
 // Tick lets a unit of time go by (P8).
 func (g *Group) Tick() { g.now++ }
-
-// Renew renews a worker's leases (P9).
-func (g *Group) Renew(w int) (int, api.Errno) { return 0, api.OK }
-
-// Take lets a worker take a shard that is free (P10).
-func (g *Group) Take(w int) (int, api.Errno) { return 0, api.OK }
-
-// Steal lets a worker take a shard, free or not (P11).
-func (g *Group) Steal(w int, shard int) api.Errno { return api.OK }
-
-// Crash lets a worker forget (P12).
-func (g *Group) Crash(w int) api.Errno { return api.OK }
-
-// Lease tells the lease of a shard (P13).
-func (g *Group) Lease(shard int) (api.Lease, api.Errno) { return api.Lease{}, api.OK }
-
-// Holds tells what a worker holds (P13).
-func (g *Group) Holds(w int) ([]api.Hold, api.Errno) { return nil, api.OK }
 
 // Fetch lets a worker read records of a shard (P14).
 func (g *Group) Fetch(w int, shard int) (int, api.Errno) { return 0, api.OK }

@@ -37,7 +37,7 @@ func (l *Log) Put(r record.Record) (int, int, api.Errno) {
 
 // Split closes a shard and opens two for its range, which meet at the hash at; it answers the first of them.
 func (l *Log) Split(n int, at int) (int, api.Errno) {
-	if !l.has(n) {
+	if !l.Has(n) {
 		return 0, api.ErrShard
 	}
 	lo, hi := l.shards[n].lo, l.shards[n].hi
@@ -59,8 +59,8 @@ func (l *Log) Split(n int, at int) (int, api.Errno) {
 
 // Merge closes two shards and opens one for both ranges, which it answers.
 func (l *Log) Merge(a int, b int) (int, api.Errno) {
-	hasA := l.has(a)
-	hasB := l.has(b)
+	hasA := l.Has(a)
+	hasB := l.Has(b)
 	if !hasA || !hasB {
 		return 0, api.ErrShard
 	}
@@ -91,8 +91,35 @@ func (l *Log) List() []api.Shard {
 	return list
 }
 
-func (l *Log) has(n int) bool {
+// Len is how many shards there are.
+func (l *Log) Len() int {
+	return len(l.shards)
+}
+
+// Has tells whether there is a shard n.
+func (l *Log) Has(n int) bool {
 	return 0 <= n && n < len(l.shards)
+}
+
+// Closed tells whether there is a shard n, and it is closed.
+func (l *Log) Closed(n int) bool {
+	return l.Has(n) && !l.shards[n].open
+}
+
+// Count is how many records a shard has; 0, if there is no such shard.
+func (l *Log) Count(n int) int {
+	if !l.Has(n) {
+		return 0
+	}
+	return len(l.shards[n].records)
+}
+
+// Parents tells the parents of a shard, in a list that is the caller's. Each has a lesser number than the shard.
+func (l *Log) Parents(n int) []int {
+	if !l.Has(n) {
+		return nil
+	}
+	return l.shards[n].copyParents()
 }
 
 func (l *Log) hasRoom(more int) bool {
@@ -112,11 +139,16 @@ func (s *shard) accepts(hash int) bool {
 	return s.open && s.lo <= hash && hash < s.hi
 }
 
-func (s *shard) tell() api.Shard {
-	// A copy: a caller who wrote into the shard's own list would change the log.
+// copyParents makes a list of its own: a caller who wrote into the shard's list would change the log.
+func (s *shard) copyParents() []int {
 	parents := make([]int, 0, len(s.parents))
 	for i := 0; i < len(s.parents); i++ {
 		parents = append(parents, s.parents[i])
 	}
+	return parents
+}
+
+func (s *shard) tell() api.Shard {
+	parents := s.copyParents()
 	return api.Shard{Lo: s.lo, Hi: s.hi, Open: s.open, Parents: parents, Count: len(s.records)}
 }

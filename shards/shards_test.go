@@ -1,6 +1,8 @@
 package shards
 
 import (
+	"math"
+	"slices"
 	"testing"
 
 	"shardflow/api"
@@ -77,4 +79,44 @@ func TestNoRecordIsLostAtAFullShard(t *testing.T) { // P1, P4
 		}
 	}
 	checkRecords(t, &l, 0, want)
+}
+
+func TestWhatTheLogTellsOfAShard(t *testing.T) { // P5 to P7
+	l := New()
+	mustPut(t, &l, mustMake(t, "a", 1, 1))
+	mustPut(t, &l, mustMake(t, "z", 1, 1))
+	l.Split(0, 100)
+	mustPut(t, &l, mustMake(t, "z", 1, 1))
+	l.Merge(1, 2)
+	want := []struct {
+		closed  bool
+		count   int
+		parents []int
+	}{{true, 2, nil}, {true, 0, []int{0}}, {true, 1, []int{0}}, {false, 0, []int{1, 2}}}
+	if l.Len() != len(want) {
+		t.Fatalf("Len() = %d, want %d", l.Len(), len(want))
+	}
+	for n, w := range want {
+		if !l.Has(n) || l.Closed(n) != w.closed || l.Count(n) != w.count || !slices.Equal(l.Parents(n), w.parents) {
+			t.Errorf("shard %d: %v, %v, %d, %v, want %+v", n, l.Has(n), l.Closed(n), l.Count(n), l.Parents(n), w)
+		}
+	}
+	for _, n := range []int{math.MinInt, -1, 4, 16, math.MaxInt} {
+		if l.Has(n) || l.Closed(n) || l.Count(n) != 0 || len(l.Parents(n)) != 0 {
+			t.Errorf("shard %d: %v, %v, %d, %v", n, l.Has(n), l.Closed(n), l.Count(n), l.Parents(n))
+		}
+	}
+}
+
+func TestParentsAreTheCallers(t *testing.T) { // P2
+	l := New()
+	l.Split(0, 100)
+	l.Merge(1, 2)
+	parents := l.Parents(3)
+	for i := range parents[:cap(parents)] {
+		parents[:cap(parents)][i] = -9
+	}
+	if got := l.Parents(3); !slices.Equal(got, []int{1, 2}) {
+		t.Errorf("Parents(3) = %v", got)
+	}
 }
