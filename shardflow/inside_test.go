@@ -9,7 +9,7 @@ import (
 	"shardflow/memory"
 )
 
-// No call tells the time, the configuration or the notes, and none folds yet, so these look inside.
+// No call tells the time, the configuration or the notes, so these look inside.
 
 func inside(t *testing.T, workers int) *Group {
 	t.Helper()
@@ -55,7 +55,7 @@ func TestTick(t *testing.T) { // P3, P8
 	}
 }
 
-func TestTheLogDoesNotMoveTheTime(t *testing.T) { // P8
+func TestTheOtherCallsDoNotMoveTheTime(t *testing.T) { // P8
 	g, e := New(api.Config{Workers: 1, Lease: 1, Batch: 1, Width: 1, Slide: 1})
 	if e != api.OK {
 		t.Fatalf("New = %d", e)
@@ -68,38 +68,14 @@ func TestTheLogDoesNotMoveTheTime(t *testing.T) { // P8
 	g.Merge(1, 2)
 	g.Merge(1, 2)
 	g.Shards()
+	g.Take(0)
+	g.Fetch(0, 0)
+	g.Commit(0, 0, false)
+	g.Renew(0)
+	g.Read("a", 500)
 	if g.now != 1 {
 		t.Errorf("the time is %d, want 1", g.now)
 	}
-}
-
-func TestAHoldBeginsAtTheMark(t *testing.T) { // P10, P11: TAKES
-	g := inside(t, 2)
-	for range 5 {
-		g.Put("a", 1, 1)
-	}
-	g.sink.Advance(0, 2)
-	if n, e := g.Take(0); n != 0 || e != api.OK {
-		t.Fatalf("Take(0) = %d, %d", n, e)
-	}
-	checkOneHold(t, g, 0, api.Hold{Shard: 0, Epoch: 1, At: 2})
-	g.sink.Advance(0, 1)
-	if e := g.Steal(1, 0); e != api.OK {
-		t.Fatalf("Steal(1, 0) = %d", e)
-	}
-	checkOneHold(t, g, 1, api.Hold{Shard: 0, Epoch: 2, At: 3})
-	checkOneHold(t, g, 0, api.Hold{Shard: 0, Epoch: 1, At: 2})
-}
-
-func TestRenewLeavesAtAndBuffer(t *testing.T) { // P9
-	g := inside(t, 1)
-	g.Take(0)
-	hold := api.Hold{Shard: 0, Epoch: 1, At: 2, Buffer: 3}
-	g.workers[0].Keep(hold)
-	if n, e := g.Renew(0); n != 1 || e != api.OK {
-		t.Fatalf("Renew(0) = %d, %d", n, e)
-	}
-	checkOneHold(t, g, 0, hold)
 }
 
 func TestAHoldOfAnotherEpochIsGone(t *testing.T) { // P9: the owner is the same worker
@@ -130,62 +106,6 @@ func TestAHoldOfAnotherOwnerIsGone(t *testing.T) { // P9: the epoch is the same
 	checkOneHold(t, g, 1, api.Hold{Shard: 0, Epoch: 1})
 }
 
-func TestExampleFive(t *testing.T) { // P9, P10: as far as the leases go
-	g := inside(t, 2)
-	g.Put("a", 7, 12)
-	g.Split(0, 64)
-	g.Put("a", 5, 3)
-	g.Put("ab", 1, 0)
-	steps := []struct{ w, want, errno int }{{0, 0, 0}, {0, 0, 10}, {1, 0, 10}}
-	for _, s := range steps {
-		if n, e := g.Take(s.w); n != s.want || int(e) != s.errno {
-			t.Fatalf("Take(%d) = %d, %d, want %d, %d", s.w, n, e, s.want, s.errno)
-		}
-	}
-	g.sink.Advance(0, 1) // shard 0 is finished
-	if n, e := g.Take(1); n != 1 || e != api.OK {
-		t.Fatalf("Take(1) = %d, %d", n, e)
-	}
-	if n, e := g.Take(0); n != 2 || e != api.OK {
-		t.Fatalf("Take(0) = %d, %d", n, e)
-	}
-	g.sink.Advance(2, 1)
-	if n, e := g.Renew(0); n != 1 || e != api.OK {
-		t.Fatalf("Renew(0) = %d, %d", n, e)
-	}
-	checkLeaseOf(t, g, 0, api.Lease{Owner: -1, Counter: 2, Epoch: 1})
-	checkLeaseOf(t, g, 2, api.Lease{Owner: 0, Counter: 2, Epoch: 1})
-	checkOneHold(t, g, 0, api.Hold{Shard: 2, Epoch: 1})
-	if e := g.Steal(1, 0); e != api.ErrWait {
-		t.Fatalf("Steal(1, 0) = %d", e)
-	}
-}
-
-func TestAShardWithRecordsLeftIsRenewed(t *testing.T) { // P9, P10, P11
-	g := inside(t, 2)
-	g.Put("a", 1, 1)
-	g.Put("a", 1, 1)
-	g.Take(0)
-	g.Split(0, 64)
-	g.sink.Advance(0, 1)
-	if n, e := g.Renew(0); n != 1 || e != api.OK {
-		t.Fatalf("Renew(0) = %d, %d", n, e)
-	}
-	if e := g.Steal(1, 1); e != api.ErrWait {
-		t.Fatalf("Steal(1, 1) = %d", e)
-	}
-	if e := g.Steal(1, 0); e != api.OK {
-		t.Fatalf("Steal(1, 0) = %d", e)
-	}
-	g.sink.Advance(0, 1)
-	if e := g.Steal(0, 1); e != api.OK {
-		t.Fatalf("Steal(0, 1) = %d", e)
-	}
-	if n, e := g.Take(0); n != 2 || e != api.OK {
-		t.Fatalf("Take(0) = %d, %d", n, e)
-	}
-}
-
 // whole is all that a group keeps, notes too.
 func whole(g *Group) string { return fmt.Sprintf("%+v", *g) }
 
@@ -213,6 +133,84 @@ func TestErrorsChangeNothing(t *testing.T) { // P1, P9 to P13
 	g.Holds(0)
 	if after := whole(g); after != before {
 		t.Errorf("the group was\n%s\nand is\n%s", before, after)
+	}
+}
+
+func TestErrorsOfTheFoldingChangeNothing(t *testing.T) { // P1, P14 to P17
+	g := inside(t, 3)
+	g.Put("a", 1, 1)
+	g.Take(0)
+	g.Steal(1, 0)
+	g.Fetch(1, 0)
+	g.Tick()
+	before := whole(g)
+	for _, lost := range []bool{false, true} {
+		for _, w := range []int{math.MinInt, -1, 3, 4, math.MaxInt} {
+			g.Fetch(w, 0)
+			g.Commit(w, 0, lost)
+		}
+		for _, shard := range []int{math.MinInt, -1, 1, 16, math.MaxInt} {
+			g.Fetch(1, shard)
+			g.Commit(1, shard, lost)
+			g.Mark(shard)
+		}
+		g.Fetch(2, 0) // no hold
+		g.Commit(2, 0, lost)
+		g.Commit(0, 0, lost) // nothing buffered
+	}
+	g.Read("A", 0)
+	g.Read("a", 3)
+	g.Windows("A")
+	if after := whole(g); after != before {
+		t.Errorf("the group was\n%s\nand is\n%s", before, after)
+	}
+}
+
+func TestTellingChangesNothing(t *testing.T) { // P16, P17
+	g := inside(t, 2)
+	g.Put("a", 1, 7)
+	g.Put("a", 2, 9)
+	g.Take(0)
+	g.Fetch(0, 0)
+	g.Commit(0, 0, true)
+	g.Split(0, 64)
+	before := whole(g)
+	g.Mark(0)
+	g.Mark(2)
+	g.Read("a", 0)
+	g.Read("a", 5)
+	g.Read("b", 5)
+	g.Windows("a")
+	g.Windows("b")
+	if after := whole(g); after != before {
+		t.Errorf("the group was\n%s\nand is\n%s", before, after)
+	}
+}
+
+func TestErrFencedChangesTheHoldAlone(t *testing.T) { // P1, P15
+	for _, lost := range []bool{false, true} {
+		g := inside(t, 2)
+		g.Put("a", 1, 1)
+		g.Put("a", 2, 2)
+		g.Put("a", 3, 3)
+		g.Take(0)
+		g.Fetch(0, 0)
+		g.Steal(1, 0)
+		g.Fetch(1, 0)
+		g.Commit(1, 0, false)
+		g.Tick()
+		g.Take(0)
+		before := *g
+		before.workers = []memory.Memory{g.workers[0], g.workers[1]}
+		if e := g.Commit(0, 0, lost); e != api.ErrFenced {
+			t.Fatalf("Commit(0, 0, %t) = %d", lost, e)
+		}
+		if !lost {
+			before.workers[0].Drop(0)
+		}
+		if want, got := whole(&before), whole(g); got != want {
+			t.Errorf("lost %t: the group is\n%s\nwant\n%s", lost, got, want)
+		}
 	}
 }
 

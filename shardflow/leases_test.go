@@ -14,11 +14,7 @@ func groupOf(t *testing.T, workers int, lease int) *shardflow.Group {
 	c := plain()
 	c.Workers = workers
 	c.Lease = lease
-	g, e := shardflow.New(c)
-	if g == nil || e != api.OK {
-		t.Fatalf("New(%+v) = %v, %d", c, g, e)
-	}
-	return g
+	return groupWith(t, c)
 }
 
 func checkLease(t *testing.T, g *shardflow.Group, shard int, owner int, counter int, epoch int) {
@@ -29,7 +25,7 @@ func checkLease(t *testing.T, g *shardflow.Group, shard int, owner int, counter 
 	}
 }
 
-// hold is one without records: nothing is folded.
+// hold is one without records, of a shard of which nothing is folded.
 func hold(shard int, epoch int) api.Hold {
 	return api.Hold{Shard: shard, Epoch: epoch, At: 0, Buffer: 0}
 }
@@ -69,10 +65,11 @@ func checkCrash(t *testing.T, g *shardflow.Group, w int) {
 	}
 }
 
-// seen is all that the calls tell.
+// seen is all that the calls tell, but for the sums.
 type seen struct {
 	shards []api.Shard
 	leases []api.Lease
+	marks  []api.Mark
 	holds  [][]api.Hold
 }
 
@@ -81,6 +78,8 @@ func look(g *shardflow.Group) seen {
 	for n := range s.shards {
 		lease, _ := g.Lease(n)
 		s.leases = append(s.leases, lease)
+		mark, _ := g.Mark(n)
+		s.marks = append(s.marks, mark)
 	}
 	for w := range 4 {
 		holds, _ := g.Holds(w)
@@ -92,7 +91,7 @@ func look(g *shardflow.Group) seen {
 func checkSeen(t *testing.T, g *shardflow.Group, want seen) {
 	t.Helper()
 	got := look(g)
-	same := sameShards(got.shards, want.shards) && slices.Equal(got.leases, want.leases)
+	same := sameShards(got.shards, want.shards) && slices.Equal(got.leases, want.leases) && slices.Equal(got.marks, want.marks)
 	for w := range want.holds {
 		same = same && slices.Equal(got.holds[w], want.holds[w])
 	}

@@ -14,13 +14,18 @@ func plain() api.Config {
 	return api.Config{Workers: 2, Lease: 3, Batch: 2, Width: 10, Slide: 5, Late: 0}
 }
 
-func newGroup(t *testing.T) *shardflow.Group {
+func groupWith(t *testing.T, c api.Config) *shardflow.Group {
 	t.Helper()
-	g, e := shardflow.New(plain())
+	g, e := shardflow.New(c)
 	if g == nil || e != api.OK {
-		t.Fatalf("New = %v, %d", g, e)
+		t.Fatalf("New(%+v) = %v, %d", c, g, e)
 	}
 	return g
+}
+
+func newGroup(t *testing.T) *shardflow.Group {
+	t.Helper()
+	return groupWith(t, plain())
 }
 
 func shard(lo int, hi int, open bool, count int, parents ...int) api.Shard {

@@ -52,18 +52,3 @@ func (g *Group) Shards() []api.Shard { return g.log.List() }
 
 // Tick lets a unit of time go by (P8).
 func (g *Group) Tick() { g.now++ }
-
-// Fetch lets a worker read records of a shard (P14).
-func (g *Group) Fetch(w int, shard int) (int, api.Errno) { return 0, api.OK }
-
-// Commit folds what a worker has read into the sink (P15).
-func (g *Group) Commit(w int, shard int, lost bool) api.Errno { return api.OK }
-
-// Mark tells how far a shard is folded (P16).
-func (g *Group) Mark(shard int) (api.Mark, api.Errno) { return api.Mark{}, api.OK }
-
-// Read tells what is folded for a key and a window (P17).
-func (g *Group) Read(key string, start int) (api.Sum, api.Errno) { return api.Sum{}, api.OK }
-
-// Windows tells into which windows records of a key are folded (P17).
-func (g *Group) Windows(key string) ([]int, api.Errno) { return nil, api.OK }

@@ -114,6 +114,14 @@ func (l *Log) Count(n int) int {
 	return len(l.shards[n].records)
 }
 
+// Record tells a record of a shard; one of zeros, if there is none.
+func (l *Log) Record(n int, place int) record.Record {
+	if place < 0 || place >= l.Count(n) {
+		return record.Record{}
+	}
+	return l.shards[n].records[place]
+}
+
 // Parents tells the parents of a shard, in a list that is the caller's. Each has a lesser number than the shard.
 func (l *Log) Parents(n int) []int {
 	if !l.Has(n) {

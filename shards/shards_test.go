@@ -27,13 +27,17 @@ func mustPut(t *testing.T, l *Log, r record.Record) {
 
 func checkRecords(t *testing.T, l *Log, n int, want []record.Record) {
 	t.Helper()
-	got := l.shards[n].records
-	if len(got) != len(want) {
-		t.Fatalf("shard %d has %d records, want %d", n, len(got), len(want))
+	if l.Count(n) != len(want) {
+		t.Fatalf("shard %d has %d records, want %d", n, l.Count(n), len(want))
 	}
 	for i := range want {
-		if got[i] != want[i] {
-			t.Errorf("shard %d, record %d is %v, want %v", n, i, got[i], want[i])
+		if got := l.Record(n, i); got != want[i] {
+			t.Errorf("shard %d, record %d is %v, want %v", n, i, got, want[i])
+		}
+	}
+	for _, i := range []int{math.MinInt, -1, len(want), len(want) + 1, math.MaxInt} {
+		if got := l.Record(n, i); got != (record.Record{}) {
+			t.Errorf("shard %d, record %d is %v", n, i, got)
 		}
 	}
 }
@@ -102,7 +106,7 @@ func TestWhatTheLogTellsOfAShard(t *testing.T) { // P5 to P7
 		}
 	}
 	for _, n := range []int{math.MinInt, -1, 4, 16, math.MaxInt} {
-		if l.Has(n) || l.Closed(n) || l.Count(n) != 0 || len(l.Parents(n)) != 0 {
+		if l.Has(n) || l.Closed(n) || l.Count(n) != 0 || len(l.Parents(n)) != 0 || l.Record(n, 0) != (record.Record{}) {
 			t.Errorf("shard %d: %v, %v, %d, %v", n, l.Has(n), l.Closed(n), l.Count(n), l.Parents(n))
 		}
 	}

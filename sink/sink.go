@@ -1,4 +1,4 @@
-// Package sink keeps how far the shards are folded.
+// Package sink keeps which records are folded.
 package sink
 
 import (
@@ -6,79 +6,46 @@ import (
 	"shardflow/shards"
 )
 
-// Sink has for each shard how many of its records are folded: the first ones.
+// Sink has a mark for each shard. More is not kept: the records stay in the log, and what they make follows from them and from the marks.
 type Sink struct {
-	done [api.MaxShards]int
+	marks [api.MaxShards]mark
 }
 
-// Stage is how far a shard is.
-type Stage int
-
-const (
-	Waiting  Stage = 0 // not ready, or there is no such shard
-	Due      Stage = 1 // ready, and not finished
-	Finished Stage = 2
-)
-
-// Stages has the stage of each shard, by its number.
-type Stages [api.MaxShards]Stage
+// mark: the first done records of a shard are folded, the last of them by a hold of that epoch.
+type mark struct {
+	done, epoch int
+}
 
 // Done is how many records of a shard are folded.
 func (s *Sink) Done(n int) int {
-	if n < 0 || n >= len(s.done) {
+	if !has(n) {
 		return 0
 	}
-	return s.done[n]
+	return s.marks[n].done
 }
 
-// Advance counts more records of a shard as folded.
-func (s *Sink) Advance(n int, more int) {
-	if n < 0 || n >= len(s.done) {
-		return
+// Commit folds what a hold has buffered, and tells whether it did. It refuses a hold that is older than the last that it saw, and records that are not the next ones: so none is folded twice or left out, whoever believes to hold the shard.
+func (s *Sink) Commit(h api.Hold) bool {
+	if !has(h.Shard) {
+		return false
 	}
-	s.done[n] += more
-}
-
-// Stage tells how far one shard is.
-func (s *Sink) Stage(log *shards.Log, n int) Stage {
-	stages := s.Stages(log)
-	if n < 0 || n >= len(stages) {
-		return Waiting
+	old := s.marks[h.Shard]
+	if h.Epoch < old.epoch || h.At != old.done {
+		return false
 	}
-	return stages[n]
-}
-
-// Stages tells how far each shard is.
-func (s *Sink) Stages(log *shards.Log) Stages {
-	stages := Stages{}
-	count := log.Len()
-	// Parents have lesser numbers than their shards: in rising order their stages are known first.
-	for n := 0; n < count && n < len(stages); n++ {
-		parents := log.Parents(n)
-		ready := stages.allFinished(parents)
-		folded := s.allFolded(log, n)
-		if ready && folded {
-			stages[n] = Finished
-		} else if ready {
-			stages[n] = Due
-		}
-	}
-	return stages
-}
-
-// allFolded tells whether nothing of a shard is left to fold, and nothing can come.
-func (s *Sink) allFolded(log *shards.Log, n int) bool {
-	closed := log.Closed(n)
-	done := s.Done(n)
-	return closed && done >= log.Count(n)
-}
-
-func (s Stages) allFinished(list []int) bool {
-	for i := 0; i < len(list); i++ {
-		n := list[i]
-		if n < 0 || n >= len(s) || s[n] != Finished {
-			return false
-		}
-	}
+	s.marks[h.Shard] = mark{done: old.done + h.Buffer, epoch: h.Epoch}
 	return true
+}
+
+// Mark tells how far a shard is folded.
+func (s *Sink) Mark(log *shards.Log, n int) api.Mark {
+	if !has(n) {
+		return api.Mark{}
+	}
+	_, greatest := s.walk(log)
+	return api.Mark{Done: s.marks[n].done, Epoch: s.marks[n].epoch, Watermark: greatest[n]}
+}
+
+func has(n int) bool {
+	return 0 <= n && n < api.MaxShards
 }

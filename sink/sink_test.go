@@ -2,6 +2,7 @@ package sink
 
 import (
 	"math"
+	"slices"
 	"testing"
 
 	"shardflow/api"
@@ -9,120 +10,169 @@ import (
 	"shardflow/shards"
 )
 
-func put(t *testing.T, log *shards.Log, key string) {
+func checkMark(t *testing.T, s *Sink, log *shards.Log, n int, done int, epoch int, watermark int) {
 	t.Helper()
-	r, e := record.Make(key, 1, 1)
-	if e != api.OK {
-		t.Fatalf("Make(%q) = %d", key, e)
-	}
-	if _, _, e := log.Put(r); e != api.OK {
-		t.Fatalf("Put(%q) = %d", key, e)
+	want := api.Mark{Done: done, Epoch: epoch, Watermark: watermark}
+	if got := s.Mark(log, n); got != want || s.Done(n) != done {
+		t.Fatalf("Mark(%d) = %+v, Done %d, want %+v", n, got, s.Done(n), want)
 	}
 }
 
-func split(t *testing.T, log *shards.Log, n int, at int) {
+func checkFolded(t *testing.T, s *Sink, log *shards.Log, key string, want ...Folded) {
 	t.Helper()
-	if _, e := log.Split(n, at); e != api.OK {
-		t.Fatalf("Split(%d, %d) = %d", n, at, e)
+	k, ok := record.ParseKey(key)
+	if !ok {
+		t.Fatalf("%q is no key", key)
+	}
+	if got := s.FoldedOf(log, k); !slices.Equal(got, want) {
+		t.Fatalf("FoldedOf(%q) = %v, want %v", key, got, want)
 	}
 }
 
-func merge(t *testing.T, log *shards.Log, a int, b int) {
-	t.Helper()
-	if _, e := log.Merge(a, b); e != api.OK {
-		t.Fatalf("Merge(%d, %d) = %d", a, b, e)
-	}
-}
-
-// check takes all stages behind those that are named to be Waiting: there are no such shards.
-func check(t *testing.T, s *Sink, log *shards.Log, want ...Stage) {
-	t.Helper()
-	all := Stages{}
-	copy(all[:], want)
-	if got := s.Stages(log); got != all {
-		t.Fatalf("Stages() = %v, want %v", got, all)
-	}
-	for n := range all {
-		if got := s.Stage(log, n); got != all[n] {
-			t.Fatalf("Stage(%d) = %d, want %d", n, got, all[n])
+func TestCommitGoesByEpochAndPlace(t *testing.T) { // P15
+	for _, h := range []struct {
+		epoch, at int
+		folds     bool
+	}{
+		{5, 3, true}, {6, 3, true}, {math.MaxInt, 3, true},
+		{4, 3, false}, {0, 3, false}, {math.MinInt, 3, false},
+		{5, 2, false}, {5, 4, false}, {6, 0, false}, {6, 5, false}, {4, 2, false},
+	} {
+		s, log := Sink{}, shards.New()
+		for range 5 {
+			putAt(t, &log, "a", 7)
+		}
+		if !s.Commit(api.Hold{Shard: 0, Epoch: 5, At: 0, Buffer: 3}) {
+			t.Fatalf("the first is refused")
+		}
+		checkMark(t, &s, &log, 0, 3, 5, 7)
+		before := s
+		if got := s.Commit(api.Hold{Shard: 0, Epoch: h.epoch, At: h.at, Buffer: 2}); got != h.folds {
+			t.Errorf("the epoch %d, at %d: %t", h.epoch, h.at, got)
+		}
+		if h.folds {
+			checkMark(t, &s, &log, 0, 5, h.epoch, 7)
+		} else if s != before {
+			t.Errorf("the epoch %d, at %d: refused, and the sink is %+v", h.epoch, h.at, s)
 		}
 	}
 }
 
-func TestAnOpenShardIsNotFinished(t *testing.T) { // READY, FINISHED
+func TestCommitIsOneShardsAlone(t *testing.T) { // P15
 	s, log := Sink{}, shards.New()
-	check(t, &s, &log, Due)
+	split(t, &log, 0, 64)
+	put(t, &log, "ab")
 	put(t, &log, "a")
-	check(t, &s, &log, Due)
-	s.Advance(0, 1)
-	check(t, &s, &log, Due)
-}
-
-func TestAClosedShardIsFinishedWhenAllIsFolded(t *testing.T) { // READY, FINISHED
-	s, log := Sink{}, shards.New()
 	put(t, &log, "a")
-	put(t, &log, "z")
-	put(t, &log, "z")
-	split(t, &log, 0, 100)
-	check(t, &s, &log, Due, Waiting, Waiting)
-	s.Advance(0, 2)
-	check(t, &s, &log, Due, Waiting, Waiting)
-	s.Advance(0, 1)
-	check(t, &s, &log, Finished, Due, Due)
-	if s.Done(0) != 3 || s.Done(1) != 0 {
-		t.Errorf("Done = %d, %d", s.Done(0), s.Done(1))
-	}
-}
-
-func TestAnEmptyShardIsNotFinishedAheadOfItsParents(t *testing.T) { // FINISHED
-	s, log := Sink{}, shards.New()
-	put(t, &log, "a")
-	split(t, &log, 0, 100)
-	split(t, &log, 1, 50) // closed, without records
-	split(t, &log, 3, 25) // and this too
-	check(t, &s, &log, Due, Waiting, Waiting, Waiting, Waiting, Waiting, Waiting)
-	s.Advance(0, 1)
-	check(t, &s, &log, Finished, Finished, Due, Finished, Due, Due, Due)
-}
-
-func TestAMergedShardWaitsForBothParents(t *testing.T) { // READY
-	for first := 1; first <= 2; first++ {
-		s, log := Sink{}, shards.New()
-		split(t, &log, 0, 64)
-		put(t, &log, "ab") // shard 1
-		put(t, &log, "a")  // shard 2
-		merge(t, &log, 1, 2)
-		check(t, &s, &log, Finished, Due, Due, Waiting)
-		s.Advance(first, 1)
-		want := []Stage{Finished, Due, Due, Waiting}
-		want[first] = Finished
-		check(t, &s, &log, want...)
-		s.Advance(3-first, 1)
-		check(t, &s, &log, Finished, Finished, Finished, Due)
-	}
-}
-
-func TestSixteenShards(t *testing.T) { // READY, FINISHED
-	s, log := Sink{}, shards.New()
-	want := []Stage{Finished}
-	for last := 0; last < 15; last += 3 {
-		split(t, &log, last, 100)
-		merge(t, &log, last+1, last+2)
-		want = append(want, Finished, Finished, Finished)
-	}
-	want[15] = Due
-	check(t, &s, &log, want...)
+	fold(t, &s, 2, 1)
+	checkMark(t, &s, &log, 0, 0, 0, -1)
+	checkMark(t, &s, &log, 1, 0, 0, -1)
+	checkMark(t, &s, &log, 2, 1, 1, 1)
 }
 
 func TestShardsThatAreNotThere(t *testing.T) { // P1
 	s, log := Sink{}, shards.New()
 	for _, n := range []int{math.MinInt, -1, 16, math.MaxInt} {
-		s.Advance(n, 5)
-		if s.Done(n) != 0 || s.Stage(&log, n) != Waiting {
-			t.Errorf("shard %d: %d, %d", n, s.Done(n), s.Stage(&log, n))
+		if s.Commit(api.Hold{Shard: n, Epoch: 1, At: 0, Buffer: 5}) {
+			t.Errorf("shard %d: something is folded", n)
+		}
+		if s.Done(n) != 0 || s.Stage(&log, n) != Waiting || s.Mark(&log, n) != (api.Mark{}) {
+			t.Errorf("shard %d: %d, %d, %+v", n, s.Done(n), s.Stage(&log, n), s.Mark(&log, n))
 		}
 	}
 	if s != (Sink{}) {
 		t.Errorf("the sink is %+v", s)
 	}
+}
+
+func TestTheWatermarkGoesByWhatIsFolded(t *testing.T) { // The watermark
+	s, log := Sink{}, shards.New()
+	checkMark(t, &s, &log, 0, 0, 0, -1)
+	for _, time := range []int{0, 5, 3, 9} {
+		putAt(t, &log, "a", time)
+	}
+	for i, want := range []int{-1, 0, 5, 5, 9} {
+		if got := s.Mark(&log, 0).Watermark; got != want {
+			t.Errorf("with %d records folded the watermark is %d, want %d", i, got, want)
+		}
+		if i < 4 {
+			fold(t, &s, 0, 1)
+		}
+	}
+}
+
+func TestTheWatermarksOfParents(t *testing.T) { // The watermark
+	s, log := Sink{}, shards.New()
+	putAt(t, &log, "a", 10)
+	putAt(t, &log, "a", 20)
+	split(t, &log, 0, 64)
+	putAt(t, &log, "ab", 5)
+	putAt(t, &log, "a", 30)
+	merge(t, &log, 1, 2)
+	split(t, &log, 3, 50) // closed without records
+	putAt(t, &log, "a", 40)
+	all := func(want ...int) {
+		t.Helper()
+		for n := range want {
+			if got := s.Mark(&log, n).Watermark; got != want[n] {
+				t.Fatalf("the watermark of shard %d is %d, want %v", n, got, want)
+			}
+		}
+	}
+	all(-1, -1, -1, -1, -1, -1)
+	fold(t, &s, 0, 1) // a parent that is not finished has a watermark too
+	all(10, 10, 10, 10, 10, 10)
+	fold(t, &s, 0, 1)
+	all(20, 20, 20, 20, 20, 20)
+	fold(t, &s, 1, 1)
+	all(20, 20, 20, 20, 20, 20)
+	fold(t, &s, 2, 1)
+	all(20, 20, 30, 30, 30, 30)
+	fold(t, &s, 5, 1)
+	all(20, 20, 30, 30, 30, 40)
+}
+
+func TestTheGreaterOfTwoParents(t *testing.T) { // The watermark
+	for _, times := range [][2]int{{3, 8}, {8, 3}, {8, 8}, {0, 8}} {
+		s, log := Sink{}, shards.New()
+		split(t, &log, 0, 64)
+		putAt(t, &log, "ab", times[0])
+		putAt(t, &log, "a", times[1])
+		merge(t, &log, 1, 2)
+		fold(t, &s, 1, 1)
+		fold(t, &s, 2, 1)
+		if got := s.Mark(&log, 3).Watermark; got != 8 {
+			t.Errorf("parents of the watermarks %v make %d", times, got)
+		}
+	}
+}
+
+func TestFoldedTellsTheTimeAhead(t *testing.T) { // A record is late
+	s, log := Sink{}, shards.New()
+	one := putAt(t, &log, "a", 12)
+	putAt(t, &log, "ab", 14)
+	two := putAt(t, &log, "a", 3)
+	split(t, &log, 0, 64)
+	putAt(t, &log, "ab", 90)
+	three := putAt(t, &log, "a", 7)
+	four := putAt(t, &log, "a", 20)
+	five := putAt(t, &log, "a", 20)
+	checkFolded(t, &s, &log, "a")
+	fold(t, &s, 0, 2)
+	checkFolded(t, &s, &log, "a", Folded{one, -1})
+	fold(t, &s, 0, 1)
+	fold(t, &s, 1, 1) // no parent of the shard that goes on with the key
+	checkFolded(t, &s, &log, "a", Folded{one, -1}, Folded{two, 14})
+	fold(t, &s, 2, 3)
+	checkFolded(t, &s, &log, "a", Folded{one, -1}, Folded{two, 14}, Folded{three, 14}, Folded{four, 14}, Folded{five, 20})
+	checkFolded(t, &s, &log, "b")
+}
+
+func TestFoldedListsAreFresh(t *testing.T) { // P2
+	s, log := Sink{}, shards.New()
+	one := putAt(t, &log, "a", 12)
+	fold(t, &s, 0, 1)
+	list := s.FoldedOf(&log, one.Key)
+	list[0] = Folded{}
+	checkFolded(t, &s, &log, "a", Folded{one, -1})
 }
